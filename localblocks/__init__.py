@@ -1,0 +1,1 @@
+"""Localblocks: sequences as trees of small blocks that an edit hardly changes."""
