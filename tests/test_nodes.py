@@ -221,7 +221,9 @@ class NodeFromTest(unittest.TestCase):
         for value in [None, 5, b"5", ("block", (1, 2)), ["5"], {"5": "5"}, *reference.deep_values()]:
             self.refuse(value)
         for value in reference.STRANGE_VALUES:
+            before = copy.deepcopy(value)
             self.refuse(value)
+            self.assertEqual(value, before)
 
     def test_edges_of_numbers(self):
         self.assertEqual(node_from("0"), 0)
