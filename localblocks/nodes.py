@@ -40,6 +40,20 @@ def base_of(node):
     return node
 
 
+def has_parts(node):
+    """Return whether a node has parts; elements have none."""
+    return isinstance(node, tuple)
+
+
+def parts_once(node):
+    """Return the tuple of the parts of a node, of a run its node once."""
+    if is_run(node):
+        return (node[1],)
+    if is_block(node):
+        return node[1]
+    return ()
+
+
 def run_of(node, count):
     """Return the run of a node so many times; once, it is the node itself."""
     if count == 1:

@@ -2,7 +2,7 @@
 
 from localblocks.errors import TooLong
 from localblocks.marks import blocks, made_runs
-from localblocks.nodes import is_block, is_count, is_element, is_node, is_run, run_of
+from localblocks.nodes import is_block, is_count, is_element, is_node, is_run, run_of, size_of
 
 MOST_RUNS = 300
 
@@ -41,6 +41,13 @@ def tree_of(runs):
     if len(rows) == 0:
         return None
     return rows[-1][0]
+
+
+def length_of(tree):
+    """Return how many elements a tree's sequence has."""
+    if tree is None:
+        return 0
+    return size_of(tree)
 
 
 def run_count(tree):

@@ -1,8 +1,9 @@
-"""A second reading of section 3, as slow and as literal as can be, to compare with.
+"""A second reading of the sections 3 and 8 to 11, as slow and as literal as can be, to compare with.
 
 It works on texts and lists and shares no code with the package.
 """
 
+import functools
 import itertools
 import random
 
@@ -61,7 +62,7 @@ def peak_places(row):
 
 def stretches(row):
     found = [[]]
-    tops = peak_places(row)
+    tops = set(peak_places(row))
     for j, node in enumerate(row):
         if j in tops:
             found.append([])
@@ -108,6 +109,137 @@ def as_sequence(runs):
     return [e for e, c in runs for _ in range(c)]
 
 
+def sequence_of(tree):
+    """The list of the elements of a tree."""
+    if tree is None:
+        return []
+    if isinstance(tree, int):
+        return [tree]
+    if tree[0] == "run":
+        return sequence_of(tree[1]) * tree[2]
+    return [element for part in tree[1] for element in sequence_of(part)]
+
+
+def parts(node):
+    if isinstance(node, int):
+        return []
+    return [node[1]] * node[2] if node[0] == "run" else list(node[1])
+
+
+def placed(node, begin=0):
+    """All pairs (node, begin) of a node, its parts, their parts and so on; of a run each part at its place."""
+    if node is None:
+        return []
+    found = [(node, begin)]
+    for part in parts(node):
+        found += placed(part, begin)
+        begin += len(sequence_of(part))
+    return found
+
+
+def way(tree, index):
+    return tuple((node, begin) for node, begin in placed(tree) if 0 <= index - begin < len(sequence_of(node)))
+
+
+def standing(tree):
+    """The set of all (index, text, times) of which the node with this text stands there so many times."""
+    found = set()
+    for node, begin in placed(tree):
+        found.add((begin, text(node), 1))
+        if not isinstance(node, int) and node[0] == "run":
+            size = len(sequence_of(node[1]))
+            for at in range(node[2]):
+                for times in range(2, node[2] - at + 1):
+                    found.add((begin + at * size, text(node[1]), times))
+    return found
+
+
+def common(some, others):
+    """How many elements two lists have in common from the beginning."""
+    for many, (one, other) in enumerate(zip(some, others)):
+        if one != other:
+            return many
+    return min(len(some), len(others))
+
+
+def is_evidence(one, other, pairs):
+    """Whether a tuple of pairs (a node, an integer) shows what both trees have in common."""
+    index = 0
+    stands = standing(one) & standing(other)
+    for node, times in pairs:
+        if (index, text(node), times) not in stands:
+            return False
+        index += len(sequence_of(node)) * times
+    return index == common(sequence_of(one), sequence_of(other))
+
+
+def change(row, other):
+    left = common(row, other)
+    row, other = list(row[left:]), list(other[left:])
+    right = common(row[::-1], other[::-1])
+    return left, right, len(row) - right, len(other) - right
+
+
+def changes(runs, others):
+    rows = list(itertools.zip_longest(all_rows(runs), all_rows(others), fillvalue=()))
+    return tuple(change(row, other) for row, other in rows)
+
+
+def walking(node):
+    """The list of what walking a tree yields."""
+    if node is None or isinstance(node, int):
+        return [] if node is None else [node]
+    inner = (node[1],) if node[0] == "run" else node[1]
+    return [node] + [found for part in inner for found in walking(part)]
+
+
+def inner_nodes(tree):
+    """The set of the runs and blocks of a tree."""
+    return {node for node in walking(tree) if isinstance(node, tuple)}
+
+
+def in_order(nodes):
+    return tuple(sorted(nodes, key=text))
+
+
+def melted(runs):
+    out = []
+    for element, count in runs:
+        if out and out[-1][0] == element:
+            count += out.pop()[1]
+        out.append((element, count))
+    return tuple(out)
+
+
+FEW = 70
+
+
+@functools.cache
+def growing(runs):
+    """Of a sequence that is written a FEW times: the first row in which one time more only makes one
+    run longer, the place of this run, and by how much it grows."""
+    for row, longer, longest in zip(*[all_rows(melted(runs * times)) for times in (FEW, FEW + 1, FEW + 5)]):
+        at = common(row, longer)
+        if len(row) == len(longer) == len(longest) and row[at + 1:] == longer[at + 1:] == longest[at + 1:]:
+            break
+    (_, base, count), (_, same, more), (_, last, most) = row[at], longer[at], longest[at]
+    assert base == same == last and most - count == 5 * (more - count) and row[:at] == longest[:at]
+    return row, at, more - count
+
+
+@functools.cache
+def repeated(runs, times):
+    """The tree of a sequence that is written so many times, as section 12 asks for it."""
+    if times <= FEW:
+        return tree(melted(runs * times))
+    row, at, growth = growing(runs)
+    _, base, count = row[at]
+    row = row[:at] + (("run", base, count + (times - FEW) * growth),) + row[at + 1:]
+    while len(row) > 1:
+        row = with_runs([("block", piece) for piece in pieces(row)])
+    return row[0]
+
+
 def some_runs(chance, pairs, alphabet=(0, 1, 2), counts=(1, 1, 1, 2)):
     """Runs of so many pairs by a chance that the test has seeded."""
     runs = []
@@ -133,6 +265,30 @@ def many_runs(seed, times, most=300):
     for time in range(times):
         counts = ((1,), (1, 1, 2, 3), (1, 2, 20, 21, 10 ** 60))[time % 3]
         yield some_runs(chance, chance.randint(0, most), ALPHABETS[time % len(ALPHABETS)], counts)
+
+
+def small_runs():
+    """Runs of none to about a hundred elements, of many kinds."""
+    for length in range(5):
+        for sequence in itertools.product((1, 2), repeat=length):
+            yield as_runs(sequence)
+    chance = random.Random(30)
+    for time in range(60):
+        alphabet = ALPHABETS[time % len(ALPHABETS)]
+        runs = some_runs(chance, chance.randint(1, 25), alphabet, ((1,), (1, 1, 2, 5), (3, 12))[time % 3])
+        yield runs if time % 4 else melted(runs[:6] * chance.randint(2, 8))
+
+
+def long_sequences():
+    """Runs and times of sequences that are far too long to go through them one by one."""
+    yield ((1, 1), (2, 1)), 10 ** 18
+    yield ((1, 1), (2, 3), (1, 1)), 10 ** 18
+    yield ((1, 10 ** 60), (2, 1), (3, 10 ** 60)), 10 ** 18 - 1
+    chance = random.Random(31)
+    for time in range(12):
+        counts = ((1,), (1, 1, 2, 3), (1, 2, 10 ** 59))[time % 3]
+        runs = some_runs(chance, chance.choice((3, 12, 40)), ALPHABETS[time % len(ALPHABETS)], counts)
+        yield runs, 10 ** 18 - chance.randrange(10 ** 17)
 
 
 # Values of every kind that are neither nodes nor runs nor texts of nodes.

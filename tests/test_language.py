@@ -1,6 +1,7 @@
 """What of ../shared/LANGUAGE.md can be seen in the source: sizes, signs, imports, plain names."""
 
 import ast
+import builtins
 import pathlib
 import unittest
 
@@ -13,8 +14,14 @@ LISTED = {
     "nodes": "is_node level_of size_of text_of node_from",
     "marks": "first_marks next_marks marks peaks cuts blocks made_runs",
     "trees": "is_runs tree_of rows_of run_count runs_of is_tree",
+    "reading": "element_at elements_from count_of way_to walk",
+    "editing": "spliced part joined changed",
+    "sharing": "nodes_of shared fresh cost_of",
+    "comparing": "first_difference same_stretch evidence shows_common",
 }
-METHODS = ("append", "extend", "index", "join", "pop", "bit_length")
+METHODS = ("append", "extend", "index", "join", "pop", "update", "bit_length")
+# L17: names that nothing is called by.
+BARRED = ("mro", "elements", "open", "input", "law", "version_info", "with_traceback", "add_note", "register")
 
 
 class LanguageTest(unittest.TestCase):
@@ -54,6 +61,28 @@ class LanguageTest(unittest.TestCase):
                     self.assertTrue(node.func.id in known or node.func.id in BUILTINS, (name, node.func.id))
                 if isinstance(node, ast.Call) and isinstance(node.func, ast.Attribute):
                     self.assertIn(node.func.attr, METHODS, name)
+
+    def test_names(self):
+        for name, tree in self.trees():
+            imported = {item.name for node in tree.body if isinstance(node, ast.ImportFrom) for item in node.names}
+            for node in ast.walk(tree):
+                bound = node.id if isinstance(node, ast.Name) and isinstance(node.ctx, ast.Store) else ""
+                bound = getattr(node, "arg", None) or getattr(node, "name", None) or bound
+                self.assertNotIn(bound, (*BARRED, *dir(builtins)), name)
+                self.assertFalse(bound in imported and not isinstance(node, ast.alias), (name, bound))
+
+    def test_generators_are_iterated_at_once(self):
+        trees = list(self.trees())
+        found = [node for _, tree in trees for node in ast.walk(tree) if isinstance(node, ast.FunctionDef)]
+        names = [node.name for node in found if any(isinstance(row, (ast.Yield, ast.YieldFrom)) for row in ast.walk(node))]
+        self.assertEqual(names, ["walk"])
+        for name, tree in trees:
+            heads = [node.iter for node in ast.walk(tree) if isinstance(node, (ast.For, ast.comprehension))]
+            heads += [node.value for node in ast.walk(tree) if isinstance(node, ast.YieldFrom)]
+            for node in ast.walk(tree):
+                if isinstance(node, ast.Call) and isinstance(node.func, ast.Name) and node.func.id in names:
+                    self.assertIn(node, heads, name)
+                    self.assertTrue(all(isinstance(value, ast.Name) for value in node.args), name)
 
     def test_is_beside_none_only(self):
         for name, tree in self.trees():
