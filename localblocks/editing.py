@@ -2,7 +2,7 @@
 
 from localblocks.errors import NoRange, TooLong
 from localblocks.nodes import is_whole
-from localblocks.trees import MOST_RUNS, length_of, rows_of, runs_of, tree_of
+from localblocks.trees import MOST_RUNS, length_of, melted, rows_of, runs_of, tree_of
 
 
 def spliced(tree, start, stop, runs):
@@ -51,22 +51,10 @@ def _pairs_between(pairs, start, stop):
 
 def _tree_of_pieces(pieces):
     """Return the tree of runs, one behind the other; raises TooLong(300) if they make too many."""
-    runs = _melted(pieces)
+    runs = melted(pieces)
     if len(runs) > MOST_RUNS:
         raise TooLong(MOST_RUNS)
     return tree_of(runs)
-
-
-def _melted(pieces):
-    """Return the runs of several runs, one behind the other: equal ones melt where they meet."""
-    made = []
-    for pairs in pieces:
-        for element, count in pairs:
-            if made and made[-1][0] == element:
-                made[-1] = (element, made[-1][1] + count)
-            else:
-                made.append((element, count))
-    return tuple(made)
 
 
 def changed(one, other):

@@ -122,21 +122,21 @@ def node_from(text):
 
     Raises BadText(text) if there is none.
     """
-    node = None
-    if isinstance(text, str):
-        node = _read_node(text)
+    node = node_with(text)
     if node is None:
         raise BadText(text)
     return node
 
 
-def _read_node(text):
-    """Return the node with this text, or None.
+def node_with(text):
+    """Return the node with this text, which may be any value, or None if there is none.
 
     The open brackets are kept in a list, not by recursion: a wrong text may
     have thousands of them. Nodes are not deep: each level at least doubles
     the length of the text.
     """
+    if not isinstance(text, str):
+        return None
     opened = []
     at = 0
     while True:
@@ -169,7 +169,7 @@ def _closed(parts):
 def _read_element(text, at):
     """Return the element that is written at a place, or None, and the place behind it."""
     end = _digits_end(text, at)
-    number = _number(text[at:end])
+    number = whole_with(text[at:end], MOST_DIGITS)
     return (number if is_element(number) else None), end
 
 
@@ -181,7 +181,7 @@ def _read_count(node, text, at):
     if node is None or text[at:at + 1] != "^":
         return node, at
     end = _digits_end(text, at + 1)
-    count = _number(text[at + 1:end])
+    count = whole_with(text[at + 1:end], MOST_DIGITS)
     return (run_of(node, count) if is_count(count, 2) else None), end
 
 
@@ -192,11 +192,11 @@ def _digits_end(text, at):
     return at
 
 
-def _number(digits):
-    """Return the integer with these digits, or None if none in a node has them."""
+def whole_with(text, most):
+    """Return the integer from 0 with this text, or None if there is none of at most so many digits."""
     # int() is not asked for thousands of digits: it refuses them.
-    if not 1 <= len(digits) <= MOST_DIGITS:
+    if not 1 <= len(text) <= most or _digits_end(text, 0) < len(text):
         return None
-    if digits[0] == "0" and len(digits) > 1:
+    if text[0] == "0" and len(text) > 1:
         return None
-    return int(digits)
+    return int(text)

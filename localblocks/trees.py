@@ -43,6 +43,18 @@ def tree_of(runs):
     return rows[-1][0]
 
 
+def melted(pieces):
+    """Return pairs (node, count) of several tuples, one behind the other: equal nodes melt where they meet."""
+    made = []
+    for pairs in pieces:
+        for node, count in pairs:
+            if made and made[-1][0] == node:
+                made[-1] = (node, made[-1][1] + count)
+            else:
+                made.append((node, count))
+    return tuple(made)
+
+
 def length_of(tree):
     """Return how many elements a tree's sequence has."""
     if tree is None:

@@ -5,8 +5,13 @@ import unittest
 
 import reference
 from localblocks.comparing import evidence, first_difference, same_stretch, shows_common
+from localblocks.desk import Desk
 from localblocks.editing import changed, joined, part, spliced
-from localblocks.nodes import size_of
+from localblocks.nodes import level_of, node_from, size_of, text_of
+from localblocks.reading import elements_from, walk
+from localblocks.repeating import repeated
+from localblocks.store import Store
+from localblocks.texts import read_runs, read_tree, show_runs, show_tree
 from localblocks.trees import rows_of, run_count, runs_of, tree_of
 
 
@@ -155,6 +160,127 @@ class RepeatedTest(unittest.TestCase):
         for runs, _ in reference.long_sequences():
             for times in (71, 72, 100):
                 self.assertEqual(reference.repeated(runs, times), reference.tree(reference.melted(runs * times)))
+
+
+def row_nodes(tree):
+    """The sets of the nodes of each row of a tree of any number of runs: what stands within blocks, and the tree."""
+    rows = {level_of(tree): {tree}}
+    for node in walk(tree):
+        if isinstance(node, tuple) and node[0] == "block":
+            rows.setdefault(level_of(node) - 1, set()).update(node[1])
+    return rows
+
+
+class WholeProgramTest(unittest.TestCase):
+    def all_ways(self, runs):
+        """The trees of one sequence, made in all ways that the program has."""
+        right, size = reference.tree(runs), sum(count for _, count in runs)
+        at, text = size // 3, show_runs(runs)
+        yield tree_of(runs)
+        yield rows_of(runs)[-1][0]
+        yield repeated(runs, 1)
+        yield tree_of(runs_of(right))
+        yield tree_of(read_runs(text))
+        yield read_tree(show_tree(right))
+        yield node_from(text_of(right))
+        yield joined(part(right, 0, at), part(right, at, size))
+        yield spliced(None, 0, 0, runs)
+        yield spliced(right, at, size, runs_of(part(right, at, size)))
+        store = Store()
+        store.put("a", runs)
+        store.part("a", 0, at, to="b")
+        store.part("a", at, size, to="c")
+        store.concat("b", "c", to="d")
+        store.splice("b", 0, at, runs, to="e")
+        store.splice("c", 0, size - at, (), to="f")
+        store.splice("f", 0, 0, runs, to="f")
+        store.drop("a")
+        store.undo()
+        for name in "adef":
+            yield store.tree(name)
+            yield store.copy().tree(name)
+            yield Store.read(store.written()).tree(name)
+        # A line has numbers of at most 40 digits.
+        if size >= 10 ** 40:
+            return
+        desk = Desk()
+        for line in (f"put a {text}", f"part a 0 {at} b", f"part a {at} {size} c", "join b c d", f"splice d 0 {at} d -",
+                     f"splice c 0 0 e {show_runs(runs_of(part(right, 0, at)))}", "drop d", "undo"):
+            self.assertEqual(desk.say(line), "ok")
+        for name in "ae":
+            yield read_tree(desk.say(f"show {name}"))
+
+    def test_equal_trees_however_they_were_made(self):
+        for time, runs in enumerate(reference.many_runs(120, 24, 290)):
+            for tree in self.all_ways(runs) if runs else ():
+                self.assertEqual(tree, reference.tree(runs))
+
+    def test_repeated_in_all_ways(self):
+        for _, _, sequence in some_sequences(121, 40):
+            runs = reference.as_runs(sequence)[:30]
+            store = Store()
+            store.put("a", runs)
+            for times in (2, 5, 9):
+                whole = reference.melted(runs * times)
+                store.repeat("a", times, to="b")
+                store.part("b", 0, 0, to="c")
+                for _ in range(times):
+                    store.concat("c", "a", to="c")
+                desk = Desk()
+                answers = [desk.say(f"put a {show_runs(runs)}"), desk.say(f"repeat a {times} b"), desk.say("show b")]
+                trees = [tree_of(whole), repeated(runs, times), store.tree("b"), store.tree("c"), read_tree(answers[-1])]
+                for tree in trees:
+                    self.assertEqual(tree, reference.tree(whole))
+
+    def test_edits_of_versions(self):
+        for chance, alphabet, sequence in some_sequences(122, 40):
+            store = Store()
+            store.put("a", reference.as_runs(sequence))
+            for _ in range(6):
+                at = chance.randrange(len(sequence))
+                new = () if run_count(store.tree("a")) > 297 else ((chance.choice(alphabet), 1),)
+                stop = at if new and chance.random() < 0.5 else at + 1
+                store.splice("a", at, stop, new, to="b")
+                rows = changed(store.tree("a"), store.tree("b"))
+                self.assertLessEqual(max(max(many, others) for _, _, many, others in rows), 26)
+                store.undo()
+
+    def test_parts_of_what_is_repeated(self):
+        for chance, alphabet, sequence in some_sequences(123, 40):
+            runs = reference.as_runs(sequence)[:40]
+            times = 290 // len(runs)
+            tree, size = repeated(runs, times), sum(count for _, count in runs) * times
+            start, stop = sorted(chance.choices(range(size + 1), k=2))
+            for pieces, whole in (((tree,), part(tree, start, stop)), ((part(tree, 0, start), part(tree, start, size)), tree)):
+                known = [row_nodes(piece) for piece in pieces if piece is not None]
+                for level, row in row_nodes(whole).items() if whole is not None else ():
+                    new = [node for node in row if not any(node in rows.get(level, ()) for rows in known)]
+                    self.assertLessEqual(len(new), 26)
+
+    def test_joined_far_too_long(self):
+        for runs, times in reference.long_sequences():
+            for one, other in ((times // 2, times - times // 2), (1, times - 1), (times - 2, 2), (700, 900)):
+                known = row_nodes(repeated(runs, one)), row_nodes(repeated(runs, other))
+                for level, row in row_nodes(repeated(runs, one + other)).items():
+                    new = [node for node in row if not any(node in rows.get(level, ()) for rows in known)]
+                    self.assertLessEqual(len(new), 26)
+
+    def test_comparing_versions_far_too_long(self):
+        for runs, times in reference.long_sequences():
+            store, size = Store(), sum(count for _, count in runs)
+            store.put("a", runs)
+            store.repeat("a", times, to="b")
+            store.repeat("a", times - 1, to="c")
+            store.concat("a", "a", to="d")
+            for one, other, at in (("b", "c", size * (times - 1)), ("b", "d", 2 * size), ("a", "c", size), ("d", "a", size)):
+                self.assertEqual(store.difference(one, other), at)
+                tree, against = store.tree(one), store.tree(other)
+                found = evidence(tree, against)
+                self.assertIs(shows_common(tree, against, found), True)
+                self.assertLessEqual(len(found), 8 * max(level_of(tree) + 1, level_of(against) + 1))
+            tree, twice = store.tree("b"), store.tree("d")
+            self.assertIs(same_stretch(tree, size * (times - 2), twice, 0, 2 * size), True)
+            self.assertEqual(elements_from(tree, 0, min(2 * size, 2000)), elements_from(twice, 0, min(2 * size, 2000)))
 
 
 if __name__ == "__main__":

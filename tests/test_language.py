@@ -18,8 +18,12 @@ LISTED = {
     "editing": "spliced part joined changed",
     "sharing": "nodes_of shared fresh cost_of",
     "comparing": "first_difference same_stretch evidence shows_common",
+    "repeating": "repeated",
+    "store": "Store",
+    "texts": "show_runs read_runs show_tree read_tree",
+    "desk": "Desk",
 }
-METHODS = ("append", "extend", "index", "join", "pop", "update", "bit_length")
+METHODS = ("append", "extend", "index", "join", "partition", "pop", "split", "update", "values", "bit_length")
 # L17: names that nothing is called by.
 BARRED = ("mro", "elements", "open", "input", "law", "version_info", "with_traceback", "add_note", "register")
 
@@ -46,9 +50,81 @@ class LanguageTest(unittest.TestCase):
             for node in ast.walk(tree):
                 if isinstance(node, ast.FunctionDef):
                     self.assertLessEqual(node.end_lineno - node.lineno + 1, 40, (name, node.name))
-                    self.assertEqual(node.decorator_list, [])
+
+    def methods(self):
+        for name, tree in self.trees():
+            for owner in tree.body:
+                for node in owner.body if isinstance(owner, ast.ClassDef) else ():
+                    if isinstance(node, ast.FunctionDef):
+                        yield name, owner.name, node
+
+    def test_decorators_over_methods_only(self):
+        methods = [node for _, _, node in self.methods()]
+        found = {}
+        for name, tree in self.trees():
+            for node in ast.walk(tree):
+                decorators = getattr(node, "decorator_list", [])
+                if decorators:
+                    found[node.name] = [item.id for item in decorators]
+                    self.assertIn(ast.dump(node), map(ast.dump, methods))
+        self.assertEqual(found, {"names": ["property"], "changes": ["property"], "read": ["classmethod"]})
+
+    def test_functions_stand_at_module_level_or_in_classes(self):
+        for name, tree in self.trees():
+            at_top = [node for node in tree.body if isinstance(node, (ast.FunctionDef, ast.ClassDef))]
+            within = [node for owner in at_top if isinstance(owner, ast.ClassDef) for node in owner.body]
+            for node in ast.walk(tree):
+                if isinstance(node, (ast.FunctionDef, ast.ClassDef)):
+                    self.assertTrue(node in at_top or node in within, (name, node.name))
+                self.assertNotIsInstance(node, (ast.GeneratorExp, ast.NamedExpr, ast.AnnAssign, ast.Nonlocal))
+
+    def test_attributes_are_assigned_by_methods(self):
+        assigned = {node.attr for _, tree in self.trees() for node in ast.walk(tree)
+                    if isinstance(node, ast.Attribute) and isinstance(node.ctx, ast.Store)}
+        known = {node.name for _, _, node in self.methods()} | {"MOST", *METHODS}
+        for name, tree in self.trees():
+            for node in ast.walk(tree):
+                if isinstance(node, ast.Attribute) and isinstance(node.ctx, ast.Load):
+                    self.assertIn(node.attr, assigned | known, name)
+        self.assertEqual(assigned & {node.name for _, _, node in self.methods()}, set())
+
+    def test_modules_do_not_import_each_other(self):
+        known = {name[:-3]: [node.module.split(".")[1] for node in tree.body if isinstance(node, ast.ImportFrom)]
+                 for name, tree in self.trees()}
+
+        def above(module):
+            found = set(known[module])
+            for inner in known[module]:
+                found |= above(inner)
+            return found
+        for module in known:
+            self.assertNotIn(module, above(module))
+            self.assertEqual(len(known[module]), len(set(known[module])), module)
+
+    def test_what_stands_at_module_level(self):
+        for name, tree in self.trees():
+            bound = []
+            for node in tree.body:
+                if isinstance(node, ast.Assign):
+                    self.assertEqual([len(node.targets), type(node.targets[0])], [1, ast.Name])
+                    bound.append(node.targets[0].id)
+                    for value in ast.walk(node.value):
+                        kinds = (ast.Constant, ast.Tuple, ast.Dict, ast.Name, ast.Load)
+                        self.assertIsInstance(value, kinds, name)
+                        self.assertFalse(isinstance(value, ast.Dict) and value != node.value, name)
+                elif isinstance(node, ast.ImportFrom):
+                    bound += [item.name for item in node.names]
+                    self.assertTrue(all(item.asname is None for item in node.names))
+                elif isinstance(node, ast.Expr):
+                    self.assertIs(node, tree.body[0])
+                    self.assertIsInstance(node.value.value, str)
+                else:
+                    self.assertIsInstance(node, (ast.FunctionDef, ast.ClassDef))
+                    bound.append(node.name)
+            self.assertEqual(sorted(bound), sorted(set(bound)), name)
 
     def test_imports_and_calls(self):
+        own = {node.name for _, _, node in self.methods()}
         for name, tree in self.trees():
             known = {node.name for node in tree.body if isinstance(node, (ast.FunctionDef, ast.ClassDef))}
             for node in ast.walk(tree):
@@ -58,14 +134,21 @@ class LanguageTest(unittest.TestCase):
                     known |= {item.name for item in node.names}
             for node in ast.walk(tree):
                 if isinstance(node, ast.Call) and isinstance(node.func, ast.Name):
-                    self.assertTrue(node.func.id in known or node.func.id in BUILTINS, (name, node.func.id))
+                    # In these two places a parameter or a local variable is called.
+                    allowed = {"desk.py": ["answer"], "store.py": ["cls"]}.get(name, [])
+                    self.assertIn(node.func.id, [*known, *BUILTINS, *allowed], name)
                 if isinstance(node, ast.Call) and isinstance(node.func, ast.Attribute):
-                    self.assertIn(node.func.attr, METHODS, name)
+                    self.assertIn(node.func.attr, [*METHODS, *own], name)
+                if isinstance(node, ast.Call):
+                    self.assertTrue(all(word.arg == "to" for word in node.keywords), name)
 
     def test_names(self):
         for name, tree in self.trees():
             imported = {item.name for node in tree.body if isinstance(node, ast.ImportFrom) for item in node.names}
+            methods = [node for owner in tree.body if isinstance(owner, ast.ClassDef) for node in owner.body]
             for node in ast.walk(tree):
+                if node in methods:
+                    continue
                 bound = node.id if isinstance(node, ast.Name) and isinstance(node.ctx, ast.Store) else ""
                 bound = getattr(node, "arg", None) or getattr(node, "name", None) or bound
                 self.assertNotIn(bound, (*BARRED, *dir(builtins)), name)
